@@ -547,7 +547,7 @@ func TestRound(t *testing.T) {
 	wantStates(t, s, api.TEnded, api.TEnded, api.TEnded, api.TWaiting, api.TWaiting)
 }
 
-// P1202 to P1205: two tasks with every two of these moves each, picked in every order.
+// P1202 to P1205: two tasks with every two of these moves each; the first four picks in every way, then a wake and rounds.
 func TestEveryTwo(t *testing.T) {
 	kinds := []api.Move{goOn(), ask(on(0)), ask(shared(0)), free(), wait(1), wakes(goOn(), 1), wakes(wait(1), 1), end(), fall(), {Kind: 6}}
 	size := len(kinds)
