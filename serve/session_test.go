@@ -1,7 +1,9 @@
 package serve_test
 
 import (
+	"math"
 	"slices"
+	"strings"
 	"testing"
 
 	"spate/api"
@@ -399,4 +401,34 @@ func TestNeedsOfShards(t *testing.T) {
 		}
 		settle(t, s)
 	}
+}
+
+// The limits that meet: an event of 256 cells, whose key is the longest, and time and value the least; and an answer that has them all.
+func TestGreatest(t *testing.T) {
+	s := resting(t, with(func(c *api.Config) {
+		c.Views = nil
+		for late := range int64(api.MaxViews) {
+			c.Views = append(c.Views, api.View{Size: api.MaxSpan, Slide: api.MaxSpan / api.MaxPanes, Late: late})
+		}
+		c.Slots, c.Chunk, c.Out = 512, 64, 1<<17
+	}), 1)
+	key := "\x00" + strings.Repeat("\xff", api.MaxKey-1)
+	e := feed(0, key, -api.MaxTime, math.MinInt64)
+	do(t, s, e)
+	step(t, s, 0, 1)
+	step(t, s, 1, 512)
+	wantLines(t, s, 1)
+	step(t, s, 1, 1)
+	wantLines(t, s, 1, lineEvent(0, 0, e, api.FTaken))
+	wantUnits(t, s, 1, 512)
+	all := s.Map()
+	if len(all) != 256 || all[0].Agg != row("a", 0, math.MinInt64).Agg {
+		t.Fatalf("%d cells: %+v", len(all), all[:1])
+	}
+	ask(t, s, 1, scan(api.MaxEpoch, 0, api.MaxRows))
+	wantHeard(t, s, 1, rows(api.MaxEpoch, all...))
+	do(t, s, feed(0, "a", -api.MaxTime, 1), mark(0, -api.MaxTime+api.MaxSpan+3))
+	settle(t, s)
+	wantMap(t, s)
+	wantUnits(t, s, 0, 0)
 }
