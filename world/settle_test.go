@@ -11,7 +11,7 @@ import (
 
 // P2002: it does so many rounds at most, and no more than are needed; below 1 none.
 func TestRounds(t *testing.T) {
-	// Three rounds: the source gives it; the operator asks, reads and writes, and waits; all others wait from the first one on.
+	// All tasks wait; then the source gives an event, and the operator takes it, reads, writes: a round each, and one more till it waits again.
 	s := script(join(picks(3), []api.Event{feed(0, "k", 3, 5)})...)
 	all := rest(t, s)
 	if all.Rounds < 3 {
